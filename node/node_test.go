@@ -8,28 +8,16 @@ import (
 
 	"horarium/api"
 	"horarium/node"
+	"horarium/sample"
 )
 
-func window(part int, n int64) []api.Node { return []api.Node{{Kind: api.Window, Part: part, N: n}} }
-func idle(n int64) []api.Node             { return []api.Node{{Kind: api.Idle, N: n}} }
-
-func seq(l ...[]api.Node) []api.Node {
-	return append([]api.Node{{Kind: api.Seq, N: int64(len(l))}}, slices.Concat(l...)...)
-}
-
-func times(n int64, l []api.Node) []api.Node {
-	return append([]api.Node{{Kind: api.Repeat, N: n}}, l...)
-}
-
-// chain is l below so many Repeats of n times.
-func chain(how int, n int64, l []api.Node) []api.Node {
-	return slices.Concat(slices.Repeat([]api.Node{{Kind: api.Repeat, N: n}}, how), l)
-}
-
-// wide is a Seq of so many tables l.
-func wide(how int, l []api.Node) []api.Node {
-	return seq(slices.Repeat([][]api.Node{l}, how)...)
-}
+// Short names of what sample makes.
+var (
+	window, idle, seq, times = sample.Window, sample.Idle, sample.Seq, sample.Times
+	chain, wide              = sample.Chain, sample.Wide
+	tables, wrongs           = sample.Tables, sample.Wrongs
+	roomy, whole             = sample.Roomy, sample.Whole
+)
 
 // tree is a node with all below it, found by calls that call themselves and numbers of any size: another way than the package's, so that a slip in one is not in both.
 type tree struct {
@@ -129,64 +117,6 @@ func place(t *testing.T, l []api.Node, at int) {
 	if got := node.Kids(l, at); !slices.Equal(got, want.kids) {
 		t.Errorf("Kids(%.200v, %d): %v, want %v", l, at, got, want.kids)
 	}
-}
-
-// drawn is a table of some depth, the same for the same seed; x goes on from draw to draw.
-func drawn(x *uint64, deep int) []api.Node {
-	pick := func(n int) int {
-		*x = *x*6364136223846793005 + 1442695040888963407
-		return int(*x >> 33 % uint64(n))
-	}
-	kind := pick(6)
-	if deep == 0 {
-		kind = pick(2)
-	}
-	switch kind {
-	case 0:
-		return window(pick(6), int64(1+pick(9)))
-	case 1:
-		return idle(int64(1 + pick(9)))
-	case 2:
-		return times(int64(1+pick(4)), drawn(x, deep-1))
-	}
-	kids := make([][]api.Node, 1+pick(4))
-	for i := range kids {
-		kids[i] = drawn(x, deep-1)
-	}
-	return seq(kids...)
-}
-
-// tables: many that may be, and some that are too long, or have too many ticks.
-func tables() [][]api.Node {
-	out := [][]api.Node{window(0, 1), idle(1), times(2, window(0, 3)), seq(idle(2)), seq(window(0, 3), times(2, seq(idle(1), window(5, 2))), idle(4))}
-	x := uint64(1)
-	for i := range 300 {
-		out = append(out, drawn(&x, 1+i%6))
-	}
-	return out
-}
-
-// wrongs: nodes that are none.
-func wrongs() []api.Node {
-	var out []api.Node
-	for _, kind := range []int{api.Window, api.Idle, api.Seq, api.Repeat} {
-		for _, n := range []int64{0, -1, -128, math.MinInt64} {
-			out = append(out, api.Node{Kind: kind, N: n})
-		}
-		for _, part := range []int{-1, 6, 7, math.MaxInt, math.MinInt} {
-			out = append(out, api.Node{Kind: kind, Part: part, N: 1})
-		}
-		if kind != api.Window {
-			out = append(out, api.Node{Kind: kind, Part: 1, N: 1}, api.Node{Kind: kind, Part: 5, N: 1})
-		}
-	}
-	for _, kind := range []int{0, -1, 5, 6, 128, math.MaxInt, math.MinInt} {
-		out = append(out, api.Node{Kind: kind, N: 1}, api.Node{Kind: kind})
-	}
-	for _, n := range []int64{129, 1 << 32, 1<<32 + 1, math.MaxInt64} {
-		out = append(out, api.Node{Kind: api.Seq, N: n})
-	}
-	return out
 }
 
 func TestRuns(t *testing.T) {
@@ -487,16 +417,6 @@ func TestSame(t *testing.T) {
 	if node.Same(idle(6), times(2, idle(3))) || node.Same(seq(idle(1), idle(2)), seq(idle(2), idle(1))) || node.Same(seq(idle(1)), idle(1)) {
 		t.Error("Same of other rows with the same ticks: true")
 	}
-}
-
-// roomy is l with room behind its length, filled with more.
-func roomy(l, more []api.Node) []api.Node {
-	out := slices.Concat(l, more)
-	return out[:len(l)]
-}
-
-func whole(l []api.Node) []api.Node {
-	return l[:cap(l)]
 }
 
 // TestNotChanged: R2, R5: what is handed in stays, and its spare room is neither read nor written.
