@@ -15,41 +15,9 @@ import (
 // Short names of what sample makes.
 var (
 	window, idle, seq, times = sample.Window, sample.Idle, sample.Seq, sample.Times
-	chain, wide              = sample.Chain, sample.Wide
-	roomy, whole             = sample.Roomy, sample.Whole
+	chain, wide, row         = sample.Chain, sample.Wide, sample.Row
+	roomy, whole             = sample.Roomy[api.Node], sample.Whole[api.Node]
 )
-
-// spread is the leaves of the node at place at, and the place behind it, all written out by calls that call themselves: another way than the package's, so that a slip in one is not in both.
-func spread(l []api.Node, at int) ([]api.Run, int) {
-	n := l[at]
-	at++
-	kids, again := 1, 1
-	switch n.Kind {
-	case api.Window:
-		return []api.Run{{Part: n.Part, N: n.N}}, at
-	case api.Idle:
-		return []api.Run{{Part: -1, N: n.N}}, at
-	case api.Seq:
-		kids = int(n.N)
-	case api.Repeat:
-		again = int(n.N)
-	}
-	var out, kid []api.Run
-	for range kids {
-		kid, at = spread(l, at)
-		out = append(out, kid...)
-	}
-	return slices.Repeat(out, again), at
-}
-
-// runs is leaves as pairs: whose, how many ticks.
-func runs(l ...int) []api.Run {
-	var out []api.Run
-	for i := 0; i < len(l); i += 2 {
-		out = append(out, api.Run{Part: l[i], N: int64(l[i+1])})
-	}
-	return out
-}
 
 // walk is what a cursor must tell: of each tick whose it is, and where its leaf ends.
 type walk struct {
@@ -71,8 +39,7 @@ func walkOf(leaves []api.Run) *walk {
 }
 
 func of(l []api.Node) *walk {
-	leaves, _ := spread(l, 0)
-	return walkOf(leaves)
+	return walkOf(sample.Leaves(l))
 }
 
 func (w *walk) ended() bool { return w.at == int64(len(w.whose)) }
@@ -231,24 +198,24 @@ func TestOrdinary(t *testing.T) {
 		l      []api.Node
 		leaves []api.Run
 	}{
-		{window(3, 5), runs(3, 5)},
-		{window(0, 1), runs(0, 1)},
-		{idle(7), runs(-1, 7)},
-		{seq(window(0, 4)), runs(0, 4)},
-		{seq(window(0, 4), idle(1), window(1, 2)), runs(0, 4, -1, 1, 1, 2)},
-		{seq(window(0, 2), window(0, 3), idle(1), idle(2)), runs(0, 2, 0, 3, -1, 1, -1, 2)},
-		{times(1, window(0, 4)), runs(0, 4)},
-		{times(3, idle(2)), runs(-1, 2, -1, 2, -1, 2)},
-		{times(2, times(3, window(1, 5))), runs(1, 5, 1, 5, 1, 5, 1, 5, 1, 5, 1, 5)},
-		{times(2, seq(window(0, 1), idle(2))), runs(0, 1, -1, 2, 0, 1, -1, 2)},
-		{seq(seq(seq(idle(1)), window(5, 2)), idle(3)), runs(-1, 1, 5, 2, -1, 3)},
-		{seq(idle(3), seq(window(5, 2), seq(idle(1)))), runs(-1, 3, 5, 2, -1, 1)},
-		{seq(window(0, 3), times(2, seq(idle(1), window(5, 2))), idle(4)), runs(0, 3, -1, 1, 5, 2, -1, 1, 5, 2, -1, 4)},
-		{seq(times(2, window(0, 1)), times(3, window(1, 1))), runs(0, 1, 0, 1, 1, 1, 1, 1, 1, 1)},
-		{times(2, seq(times(2, window(4, 1)), idle(1))), runs(4, 1, 4, 1, -1, 1, 4, 1, 4, 1, -1, 1)},
-		{times(2, seq(idle(1), times(2, seq(window(2, 1), window(3, 2))))), runs(-1, 1, 2, 1, 3, 2, 2, 1, 3, 2, -1, 1, 2, 1, 3, 2, 2, 1, 3, 2)},
+		{window(3, 5), row(3, 5)},
+		{window(0, 1), row(0, 1)},
+		{idle(7), row(-1, 7)},
+		{seq(window(0, 4)), row(0, 4)},
+		{seq(window(0, 4), idle(1), window(1, 2)), row(0, 4, -1, 1, 1, 2)},
+		{seq(window(0, 2), window(0, 3), idle(1), idle(2)), row(0, 2, 0, 3, -1, 1, -1, 2)},
+		{times(1, window(0, 4)), row(0, 4)},
+		{times(3, idle(2)), row(-1, 2, -1, 2, -1, 2)},
+		{times(2, times(3, window(1, 5))), row(1, 5, 1, 5, 1, 5, 1, 5, 1, 5, 1, 5)},
+		{times(2, seq(window(0, 1), idle(2))), row(0, 1, -1, 2, 0, 1, -1, 2)},
+		{seq(seq(seq(idle(1)), window(5, 2)), idle(3)), row(-1, 1, 5, 2, -1, 3)},
+		{seq(idle(3), seq(window(5, 2), seq(idle(1)))), row(-1, 3, 5, 2, -1, 1)},
+		{seq(window(0, 3), times(2, seq(idle(1), window(5, 2))), idle(4)), row(0, 3, -1, 1, 5, 2, -1, 1, 5, 2, -1, 4)},
+		{seq(times(2, window(0, 1)), times(3, window(1, 1))), row(0, 1, 0, 1, 1, 1, 1, 1, 1, 1)},
+		{times(2, seq(times(2, window(4, 1)), idle(1))), row(4, 1, 4, 1, -1, 1, 4, 1, 4, 1, -1, 1)},
+		{times(2, seq(idle(1), times(2, seq(window(2, 1), window(3, 2))))), row(-1, 1, 2, 1, 3, 2, 2, 1, 3, 2, -1, 1, 2, 1, 3, 2, 2, 1, 3, 2)},
 	} {
-		if leaves, _ := spread(c.l, 0); !slices.Equal(leaves, c.leaves) {
+		if leaves := sample.Leaves(c.l); !slices.Equal(leaves, c.leaves) {
 			t.Errorf("the second reckoning of %v: %v", c.l, leaves)
 		}
 		agree(t, c.l, walkOf(c.leaves))
@@ -271,22 +238,12 @@ func TestEach(t *testing.T) {
 		{Kind: api.Window, Part: 5, N: 3}, {Kind: api.Window, N: 1}, {Kind: api.Idle, N: 2}, {Kind: api.Seq, N: 1}, {Kind: api.Seq, N: 2}, {Kind: api.Seq, N: 3}, {Kind: api.Repeat, N: 1}, {Kind: api.Repeat, N: 2},
 		{Kind: api.Repeat, N: math.MaxInt64}, {Kind: api.Window, Part: 6, N: 1}, {Kind: api.Repeat, N: 0}, {},
 	}
-	rows := [][]api.Node{nil}
-	for range 4 {
-		var longer [][]api.Node
-		for _, l := range rows {
-			for _, n := range some {
-				longer = append(longer, append(slices.Clone(l), n))
-			}
+	for _, l := range sample.Each(some, 4) {
+		if node.Right(l) != api.OK {
+			none(t, "a row", l)
+			continue
 		}
-		for _, l := range longer {
-			if node.Right(l) != api.OK {
-				none(t, "a row", l)
-				continue
-			}
-			agree(t, l, of(l))
-		}
-		rows = longer
+		agree(t, l, of(l))
 	}
 }
 

@@ -16,7 +16,7 @@ var (
 	window, idle, seq, times = sample.Window, sample.Idle, sample.Seq, sample.Times
 	chain, wide              = sample.Chain, sample.Wide
 	tables, wrongs           = sample.Tables, sample.Wrongs
-	roomy, whole             = sample.Roomy, sample.Whole
+	roomy, whole             = sample.Roomy[api.Node], sample.Whole[api.Node]
 )
 
 // tree is a node with all below it, found by calls that call themselves and numbers of any size: another way than the package's, so that a slip in one is not in both.
@@ -175,18 +175,8 @@ func TestEach(t *testing.T) {
 		{Kind: api.Window, Part: 5, N: 3}, {Kind: api.Idle, N: 2}, {Kind: api.Seq, N: 1}, {Kind: api.Seq, N: 2}, {Kind: api.Seq, N: 3}, {Kind: api.Repeat, N: 2}, {Kind: api.Repeat, N: math.MaxInt64},
 		{Kind: api.Window, Part: 6, N: 1}, {Kind: api.Repeat, N: 0}, {Kind: api.Seq, N: 0}, {},
 	}
-	rows := [][]api.Node{nil}
-	for range 4 {
-		var longer [][]api.Node
-		for _, l := range rows {
-			for _, n := range some {
-				longer = append(longer, append(slices.Clone(l), n))
-			}
-		}
-		for _, l := range longer {
-			agree(t, l)
-		}
-		rows = longer
+	for _, l := range sample.Each(some, 4) {
+		agree(t, l)
 	}
 }
 

@@ -1,4 +1,4 @@
-// Package sample: tables written short, right ones and wrong ones, for the tests of the other packages.
+// Package sample: tables and rows of runs written short, right ones and wrong ones, for the tests of the other packages.
 package sample
 
 import (
@@ -101,12 +101,81 @@ func Wrongs() []api.Node {
 	return out
 }
 
+// Leaves is what time goes through in l, a table that may be, all written out by calls that call themselves: another way than the packages', so that a slip in one is not in both.
+func Leaves(l []api.Node) []api.Run {
+	out, _ := spread(l, 0)
+	return out
+}
+
+// spread is the leaves of the node at place at, and the place behind it.
+func spread(l []api.Node, at int) ([]api.Run, int) {
+	n := l[at]
+	at++
+	kids, again := 1, 1
+	switch n.Kind {
+	case api.Window:
+		return []api.Run{{Part: n.Part, N: n.N}}, at
+	case api.Idle:
+		return []api.Run{{Part: -1, N: n.N}}, at
+	case api.Seq:
+		kids = int(n.N)
+	case api.Repeat:
+		again = int(n.N)
+	}
+	var out, kid []api.Run
+	for range kids {
+		kid, at = spread(l, at)
+		out = append(out, kid...)
+	}
+	return slices.Repeat(out, again), at
+}
+
+// Row is runs, from pairs: whose, how many ticks.
+func Row(pairs ...int64) []api.Run {
+	var out []api.Run
+	for i := 0; i < len(pairs); i += 2 {
+		out = append(out, api.Run{Part: int(pairs[i]), N: pairs[i+1]})
+	}
+	return out
+}
+
+// Rows: many rows of runs, tidy ones and others, with runs of no ticks among them.
+func Rows() [][]api.Run {
+	var out [][]api.Run
+	x := uint64(1)
+	for i := range 300 {
+		l := make([]api.Run, i%40)
+		for at := range l {
+			l[at] = api.Run{Part: pick(&x, 2+i%6) - 1, N: int64(pick(&x, 7) - i%3)}
+		}
+		out = append(out, l)
+	}
+	return out
+}
+
+// Each row of up to so many of some.
+func Each[T any](some []T, most int) [][]T {
+	out := [][]T{nil}
+	rows := out
+	for range most {
+		var longer [][]T
+		for _, l := range rows {
+			for _, x := range some {
+				longer = append(longer, append(slices.Clone(l), x))
+			}
+		}
+		rows = longer
+		out = append(out, rows...)
+	}
+	return out
+}
+
 // Roomy is l with room behind its length, filled with more.
-func Roomy(l, more []api.Node) []api.Node {
+func Roomy[T any](l, more []T) []T {
 	return slices.Concat(l, more)[:len(l)]
 }
 
 // Whole is l with its room.
-func Whole(l []api.Node) []api.Node {
+func Whole[T any](l []T) []T {
 	return l[:cap(l)]
 }
