@@ -39,25 +39,6 @@ func TestNotChanged(t *testing.T) {
 	}
 }
 
-// roomyRows is m with room behind each row, and rows behind it, all of them true.
-func roomyRows(m [][]bool) [][]bool {
-	full := slices.Repeat([]bool{true}, len(m)+3)
-	var out [][]bool
-	for _, row := range m {
-		out = append(out, sample.Roomy(row, full))
-	}
-	return sample.Roomy(out, [][]bool{slices.Clone(full), slices.Clone(full)[:len(m)], nil})
-}
-
-// wholeRows is a copy of m, all room included.
-func wholeRows(m [][]bool) [][]bool {
-	var out [][]bool
-	for _, row := range sample.Whole(m) {
-		out = append(out, slices.Clone(sample.Whole(row)))
-	}
-	return out
-}
-
 // TestRowsNotChanged: R2, R5 of Closure, also where its argument's rows are one and the same.
 func TestRowsNotChanged(t *testing.T) {
 	for _, c := range drawn() {
@@ -87,18 +68,6 @@ func TestRowsNotChanged(t *testing.T) {
 	line := []bool{false, true, false, false, false, true, true, false, false}
 	if got := picture(graph.Closure([][]bool{line[:3], line[3:6], line[6:]})); got != "111 111 111" || picture([][]bool{line}) != ".1...11.." {
 		t.Errorf("Closure of rows in one memory: %s, %s", got, picture([][]bool{line}))
-	}
-}
-
-// turn turns all of m about, row by row, all room included; where no row is, one is put.
-func turn(m [][]bool) {
-	for at, row := range sample.Whole(m) {
-		for i := range sample.Whole(row) {
-			sample.Whole(row)[i] = !sample.Whole(row)[i]
-		}
-		if row == nil {
-			sample.Whole(m)[at] = []bool{true}
-		}
 	}
 }
 

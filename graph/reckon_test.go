@@ -2,7 +2,6 @@ package graph_test
 
 import (
 	"math"
-	"math/rand/v2"
 	"slices"
 	"testing"
 
@@ -11,59 +10,22 @@ import (
 	"horarium/sample"
 )
 
-// module is a configuration with a partition for each letter: s is Sched, t is Stop, b is both, - is neither.
-func module(letters string, chans ...api.Chan) api.Config {
-	c := api.Config{Chans: chans}
-	for _, x := range []byte(letters) {
-		c.Parts = append(c.Parts, api.Part{Sched: x == 's' || x == 'b', Stop: x == 't' || x == 'b'})
-	}
-	return c
-}
+// Short names of what sample makes.
+var (
+	module          = sample.Module
+	last, queue     = sample.Last, sample.Queue
+	square, picture = sample.Square, sample.Picture
+	pairs           = sample.Pairs
+	roomyRows       = sample.RoomyRows
+	wholeRows       = sample.WholeRows
+	turn            = sample.Turn
+)
 
-// last is a channel that holds the last value alone.
-func last(from, to int) api.Chan {
-	return api.Chan{From: from, To: to}
-}
+// few: modules of few partitions and channels.
+func few() []api.Config { return sample.Few(2) }
 
-// queue is a channel that holds many values.
-func queue(from, to int) api.Chan {
-	return api.Chan{From: from, To: to, Queue: true, Cap: 2}
-}
-
-// picture is m row by row: 1 is true, a point is false.
-func picture(m [][]bool) string {
-	var out []byte
-	for at, row := range m {
-		if at > 0 {
-			out = append(out, ' ')
-		}
-		for _, x := range row {
-			if x {
-				out = append(out, '1')
-			} else {
-				out = append(out, '.')
-			}
-		}
-	}
-	return string(out)
-}
-
-// square is the rows of a picture.
-func square(s string) [][]bool {
-	var out [][]bool
-	var row []bool
-	for _, x := range []byte(s) {
-		if x == ' ' {
-			out, row = append(out, row), nil
-			continue
-		}
-		row = append(row, x == '1')
-	}
-	if len(s) > 0 {
-		out = append(out, row)
-	}
-	return out
-}
+// drawn: modules of any number of them.
+func drawn() []api.Config { return sample.Modules(8) }
 
 // far are numbers that no partition has, where there are fewer than 100.
 func far() []int {
@@ -99,17 +61,6 @@ func free(c api.Config, a, b int) bool {
 		return is(a)
 	}
 	return is(a) && is(b) && !depends(c, a, b)
-}
-
-// pairs is the square of what is told of each two of n.
-func pairs(n int, told func(a, b int) bool) [][]bool {
-	out := make([][]bool, n)
-	for a := range n {
-		for b := range n {
-			out[a] = append(out[a], told(a, b))
-		}
-	}
-	return out
 }
 
 // closed is the second reckoning of Closure: step upon step is added as long as one is missing.
@@ -176,49 +127,4 @@ func each(t *testing.T, l []api.Config, ask func(c api.Config)) {
 			return
 		}
 	}
-}
-
-// channels are all that there are between ends of some.
-func channels(some []int) []api.Chan {
-	var out []api.Chan
-	for _, from := range some {
-		for _, to := range some {
-			out = append(out, last(from, to), queue(from, to))
-		}
-	}
-	return out
-}
-
-// few: each module of up to three partitions, and up to two channels between these and such as are none.
-func few() []api.Config {
-	var out []api.Config
-	for _, letters := range sample.Each([]byte("-stb"), 3) {
-		ends := []int{-1}
-		for p := range len(letters) + 1 {
-			ends = append(ends, p)
-		}
-		for _, chans := range sample.Each(channels(ends), 2) {
-			out = append(out, module(string(letters), chans...))
-		}
-	}
-	return out
-}
-
-// drawn: modules of any number of partitions and channels, a few of which end at none; the same each time.
-func drawn() []api.Config {
-	var out []api.Config
-	r := rand.New(rand.NewPCG(7, 7))
-	for range 3000 {
-		n := r.IntN(9)
-		letters := make([]byte, n)
-		for p := range letters {
-			letters[p] = "-------------stb"[r.IntN(16)]
-		}
-		chans := make([]api.Chan, r.IntN(12))
-		for i := range chans {
-			chans[i] = api.Chan{From: r.IntN(n+2) - 1, To: r.IntN(n+2) - 1, Queue: r.IntN(3) == 0}
-		}
-		out = append(out, module(string(letters), chans...))
-	}
-	return out
 }

@@ -1,4 +1,4 @@
-// Package sample: tables and rows of runs written short, right ones and wrong ones, for the tests of the other packages.
+// Package sample: tables, rows of runs and modules written short, right ones and wrong ones, for the tests of the other packages.
 package sample
 
 import (
@@ -135,6 +135,19 @@ func Row(pairs ...int64) []api.Run {
 	var out []api.Run
 	for i := 0; i < len(pairs); i += 2 {
 		out = append(out, api.Run{Part: int(pairs[i]), N: pairs[i+1]})
+	}
+	return out
+}
+
+// Spelt is runs of one tick each, from letters: a is partition 0's, b that of 1, and so on; a point is idle.
+func Spelt(letters string) []api.Run {
+	var out []api.Run
+	for _, x := range []byte(letters) {
+		part := int(x) - 'a'
+		if x == '.' {
+			part = -1
+		}
+		out = append(out, api.Run{Part: part, N: 1})
 	}
 	return out
 }

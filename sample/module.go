@@ -1,0 +1,65 @@
+package sample
+
+import (
+	"horarium/api"
+)
+
+// Module is a configuration with a partition for each letter: s is Sched, t is Stop, b is both, - is neither.
+func Module(letters string, chans ...api.Chan) api.Config {
+	c := api.Config{Chans: chans}
+	for _, x := range []byte(letters) {
+		c.Parts = append(c.Parts, api.Part{Sched: x == 's' || x == 'b', Stop: x == 't' || x == 'b'})
+	}
+	return c
+}
+
+// Last is a channel that holds the last value alone.
+func Last(from, to int) api.Chan {
+	return api.Chan{From: from, To: to}
+}
+
+// Queue is a channel that holds many values.
+func Queue(from, to int) api.Chan {
+	return api.Chan{From: from, To: to, Queue: true, Cap: 2}
+}
+
+// Few is each module of up to three partitions, and up to so many channels between these and such as are none.
+func Few(most int) []api.Config {
+	var out []api.Config
+	for _, letters := range Each([]byte("-stb"), 3) {
+		for _, chans := range Each(channels(len(letters)), most) {
+			out = append(out, Module(string(letters), chans...))
+		}
+	}
+	return out
+}
+
+// channels are all that there are between n partitions, the one ahead of them and the one behind them.
+func channels(n int) []api.Chan {
+	var out []api.Chan
+	for from := -1; from <= n; from++ {
+		for to := -1; to <= n; to++ {
+			out = append(out, Last(from, to), Queue(from, to))
+		}
+	}
+	return out
+}
+
+// Modules: many of any number of partitions up to most, and of channels, a few of which end at none.
+func Modules(most int) []api.Config {
+	var out []api.Config
+	x := uint64(7)
+	for range 3000 {
+		n := pick(&x, most+1)
+		letters := make([]byte, n)
+		for p := range letters {
+			letters[p] = "-------------stb"[pick(&x, 16)]
+		}
+		chans := make([]api.Chan, pick(&x, 12))
+		for i := range chans {
+			chans[i] = api.Chan{From: pick(&x, n+2) - 1, To: pick(&x, n+2) - 1, Queue: pick(&x, 3) == 0}
+		}
+		out = append(out, Module(string(letters), chans...))
+	}
+	return out
+}
