@@ -12,16 +12,7 @@ import (
 
 // roomy is c with room behind its lists, in which partitions and channels stand that would count for much.
 func roomy(c api.Config) api.Config {
-	c.Parts = sample.Roomy(c.Parts, module("bst").Parts)
-	c.Chans = sample.Roomy(c.Chans, []api.Chan{queue(0, 1), queue(1, 2), queue(2, 3), last(3, 4), queue(len(c.Parts), 0)})
-	return c
-}
-
-// whole is a copy of c, its room included.
-func whole(c api.Config) api.Config {
-	c.Parts = slices.Clone(sample.Whole(c.Parts))
-	c.Chans = slices.Clone(sample.Whole(c.Chans))
-	return c
+	return sample.RoomyModule(c, module("bst", queue(0, 1), queue(1, 2), queue(2, 3), last(3, 4), queue(len(c.Parts), 0)))
 }
 
 // TestNotChanged: R2, R5: what is handed in stays, and its spare room is neither read nor written.

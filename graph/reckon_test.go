@@ -19,6 +19,7 @@ var (
 	roomyRows       = sample.RoomyRows
 	wholeRows       = sample.WholeRows
 	turn            = sample.Turn
+	whole           = sample.WholeModule
 )
 
 // few: modules of few partitions and channels.

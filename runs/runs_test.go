@@ -14,6 +14,7 @@ import (
 // Short names of what sample makes.
 var (
 	row         = sample.Row
+	word        = sample.Ticks
 	roomy       = sample.Roomy[api.Run]
 	whole       = sample.Whole[api.Run]
 	window      = sample.Window
@@ -95,17 +96,6 @@ func may(l []api.Run) bool {
 		return x.N <= 0 || x.N > 4096 || !slices.Contains([]int{-1, 0, 1, 2, 3, 4, 5}, x.Part)
 	}
 	return 0 < len(l) && len(l) < 97 && !slices.ContainsFunc(l, bad) && sum(l).Cmp(big.NewInt(4096)) <= 0
-}
-
-// word is whose each tick of l is, one by one.
-func word(l []api.Run) []int {
-	var out []int
-	for _, x := range l {
-		for range x.N {
-			out = append(out, x.Part)
-		}
-	}
-	return out
 }
 
 // far are numbers that ticks and Parts seldom have.

@@ -1,6 +1,8 @@
 package sample
 
 import (
+	"slices"
+
 	"horarium/api"
 )
 
@@ -62,4 +64,18 @@ func Modules(most int) []api.Config {
 		out = append(out, Module(string(letters), chans...))
 	}
 	return out
+}
+
+// RoomyModule is c with room behind its partitions and channels, filled with those of more.
+func RoomyModule(c, more api.Config) api.Config {
+	c.Parts = Roomy(c.Parts, more.Parts)
+	c.Chans = Roomy(c.Chans, more.Chans)
+	return c
+}
+
+// WholeModule is a copy of c, the room of its partitions and channels included.
+func WholeModule(c api.Config) api.Config {
+	c.Parts = slices.Clone(Whole(c.Parts))
+	c.Chans = slices.Clone(Whole(c.Chans))
+	return c
 }

@@ -4,6 +4,7 @@ package sample
 import (
 	"math"
 	"slices"
+	"strconv"
 
 	"horarium/api"
 )
@@ -148,6 +149,33 @@ func Spelt(letters string) []api.Run {
 			part = -1
 		}
 		out = append(out, api.Run{Part: part, N: 1})
+	}
+	return out
+}
+
+// Short is l as a text, or its beginning, if it is long.
+func Short(l []api.Run) string {
+	var out []byte
+	for at, x := range l {
+		if at == 50 {
+			return string(append(out, "and more"...))
+		}
+		out = append(out, '(')
+		out = strconv.AppendInt(out, int64(x.Part), 10)
+		out = append(out, ", "...)
+		out = strconv.AppendInt(out, x.N, 10)
+		out = append(out, ") "...)
+	}
+	return string(out)
+}
+
+// Ticks is whose each tick of l is, one by one.
+func Ticks(l []api.Run) []int {
+	var out []int
+	for _, x := range l {
+		for range x.N {
+			out = append(out, x.Part)
+		}
 	}
 	return out
 }

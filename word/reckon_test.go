@@ -1,7 +1,6 @@
 package word_test
 
 import (
-	"fmt"
 	"math"
 	"slices"
 	"testing"
@@ -17,6 +16,7 @@ var (
 	spelt         = sample.Spelt
 	square, pairs = sample.Square, sample.Pairs
 	picture       = sample.Picture
+	short         = sample.Short
 	roomy         = sample.Roomy[api.Run]
 	whole         = sample.Whole[api.Run]
 )
@@ -87,14 +87,6 @@ func is(t *testing.T, a, b []api.Run, dep [][]bool, x, y int, no bool) {
 	if word.Same(a, b, dep) == no {
 		t.Fatalf("Same(%s, %s, %.300s): %v", short(a), short(b), picture(dep), !no)
 	}
-}
-
-// short is l as a text, or its beginning, if it is long.
-func short(l []api.Run) string {
-	if len(l) > 50 {
-		return fmt.Sprint(l[:50], " and more")
-	}
-	return fmt.Sprint(l)
 }
 
 // squares: each dependence of n that says the same either way.

@@ -1,0 +1,149 @@
+package bound_test
+
+import (
+	"math"
+	"slices"
+	"testing"
+
+	"horarium/api"
+	"horarium/bound"
+	"horarium/sample"
+)
+
+// Short names of what sample makes.
+var (
+	row   = sample.Row
+	spelt = sample.Spelt
+	ticks = sample.Ticks
+	short = sample.Short
+	roomy = sample.Roomy[api.Run]
+	whole = sample.Whole[api.Run]
+)
+
+const (
+	greatest = math.MaxInt64
+	least    = math.MinInt64
+)
+
+// places is where w has ticks of part, rising.
+func places(w []int, part int) []int {
+	var out []int
+	for at, x := range w {
+		if x == part {
+			out = append(out, at)
+		}
+	}
+	return out
+}
+
+// late is what Late must answer of a frame of the ticks w: from each tick on the next one is looked for in two frames, one behind the other. Another way than the package's, which counts by runs.
+func late(w []int, from, to int) int64 {
+	next := places(slices.Concat(w, w), to)
+	most := 0
+	for _, at := range places(w, from) {
+		i, _ := slices.BinarySearch(next, at+1)
+		if i == len(next) {
+			return -1
+		}
+		most = max(most, next[i]-at)
+	}
+	return int64(most)
+}
+
+// gaps is what Gaps must answer: between each two places of part, and from its last one to its first one a frame later.
+func gaps(w []int, part int) int64 {
+	at := places(w, part)
+	if len(at) == 0 {
+		return -1
+	}
+	at = append(at, at[0]+len(w))
+	most := 0
+	for i, next := range at[1:] {
+		most = max(most, next-at[i]-1)
+	}
+	return int64(most)
+}
+
+// budget is what Budget must answer: the ticks are cut into periods, and in each part's are counted.
+func budget(w []int, part int, period int64) int64 {
+	if period < 1 || len(w) == 0 || int64(len(w))%period != 0 {
+		return -1
+	}
+	var often []int
+	for piece := range slices.Chunk(w, int(period)) {
+		often = append(often, len(places(piece, part)))
+	}
+	return int64(slices.Min(often))
+}
+
+// holds is what Holds must answer.
+func holds(c api.Config, w []int) api.Errno {
+	for _, x := range c.Chans {
+		if n := late(w, x.From, x.To); x.Late > 0 && (n < 0 || n > x.Late) {
+			return api.ErrLate
+		}
+	}
+	for p, x := range c.Parts {
+		if x.Budget > 0 && budget(w, p, x.Period) < x.Budget {
+			return api.ErrShort
+		}
+	}
+	return api.OK
+}
+
+// some are numbers of partitions, idle ticks' and such as are no partition's.
+func some() []int {
+	return []int{-2, -1, 0, 1, 2, 3, 4, 5, 6, 7}
+}
+
+// odd are numbers that few rows have to do with.
+func odd() []int64 {
+	return []int64{least, least + 1, -1 << 32, 1 - 1<<32, math.MinInt32, -4096, -6, -3, -2, 1 << 13, 1 << 31, 1 << 32, 1<<32 + 1, 1 << 62, greatest - 1, greatest}
+}
+
+// agree: all answers of l, a row of not too many ticks, are what the second reckoning tells.
+func agree(t *testing.T, l []api.Run) {
+	t.Helper()
+	w := ticks(l)
+	for _, p := range some() {
+		if got, want := bound.Gaps(l, p), gaps(w, p); got != want {
+			t.Fatalf("Gaps(%s, %d): %d, want %d", short(l), p, got, want)
+		}
+		for _, q := range some() {
+			lates(t, l, p, q, late(w, p, q))
+		}
+		for period := int64(-1); period <= int64(len(w))+1; period++ {
+			budgets(t, l, p, period, budget(w, p, period))
+		}
+		for _, period := range odd() {
+			budgets(t, l, p, period, -1)
+		}
+	}
+}
+
+// lates: Late of l answers want.
+func lates(t *testing.T, l []api.Run, from, to int, want int64) {
+	t.Helper()
+	if got := bound.Late(l, from, to); got != want {
+		t.Fatalf("Late(%s, %d, %d): %d, want %d", short(l), from, to, got, want)
+	}
+}
+
+// budgets: Budget of l answers want.
+func budgets(t *testing.T, l []api.Run, part int, period, want int64) {
+	t.Helper()
+	if got := bound.Budget(l, part, period); got != want {
+		t.Fatalf("Budget(%s, %d, %d): %d, want %d", short(l), part, period, got, want)
+	}
+}
+
+// gap: Gaps of l answers want, and Late of one and the same what follows from it.
+func gap(t *testing.T, l []api.Run, part int, want int64) {
+	t.Helper()
+	if got := bound.Gaps(l, part); got != want {
+		t.Fatalf("Gaps(%s, %d): %d, want %d", short(l), part, got, want)
+	}
+	if want < greatest {
+		lates(t, l, part, part, want+1)
+	}
+}
