@@ -155,28 +155,9 @@ func TestRound(t *testing.T) {
 	}
 }
 
-// frames are rows as long as a frame may be: by ticks, by runs, by both.
-func frames() [][]api.Run {
-	out := [][]api.Run{
-		row(0, 4096), row(-1, 4096), row(0, 1, -1, 4095), row(-1, 4095, 0, 1), row(0, 2048, 1, 2048), row(0, 1, 1, 4094, 0, 1), row(1, 2000, 0, 1, 2, 95, 1, 2000),
-		slices.Repeat(row(0, 1, 1, 1), 48), slices.Repeat(row(0, 1, 1, 2, -1, 3), 32), slices.Repeat(row(0, 42, 1, 42), 48), slices.Repeat(row(3, 1), 96), slices.Repeat(row(3, 42), 96),
-		append(slices.Repeat(row(0, 43, 1, 43), 47), row(0, 43, 5, 11)...), append(row(5, 11), slices.Repeat(row(2, 43), 95)...),
-	}
-	for i := range int64(4) {
-		var l []api.Run
-		for at := range int64(96) {
-			l = append(l, api.Run{Part: int((at*at+i)%7) - 1, N: 1 + (at*(i+3)+at/7)%(30*(i%2+1))})
-		}
-		// Up to 4096 ticks.
-		l[95].N += 4096 - runs.Length(l)
-		out = append(out, l)
-	}
-	return out
-}
-
 // TestFrames: rows as long as a frame may be.
 func TestFrames(t *testing.T) {
-	for _, l := range frames() {
+	for _, l := range sample.Frames() {
 		if !runs.Right(l) || len(l) != 96 && runs.Length(l) != 4096 {
 			t.Fatalf("%v is no such frame", l)
 		}

@@ -10,21 +10,6 @@ import (
 	"horarium/bound"
 )
 
-// ch is a channel with a Late.
-func ch(from, to int, late int64) api.Chan {
-	return api.Chan{From: from, To: to, Late: late}
-}
-
-// part is a partition with a Budget in each Period.
-func part(budget, period int64) api.Part {
-	return api.Part{Budget: budget, Period: period}
-}
-
-// module is partitions and channels.
-func module(parts []api.Part, chans ...api.Chan) api.Config {
-	return api.Config{Parts: parts, Chans: chans}
-}
-
 // is: Holds answers want.
 func is(t *testing.T, c api.Config, l []api.Run, want api.Errno) {
 	t.Helper()

@@ -16,8 +16,11 @@ var (
 	spelt = sample.Spelt
 	ticks = sample.Ticks
 	short = sample.Short
+	odd   = sample.Odd
 	roomy = sample.Roomy[api.Run]
 	whole = sample.Whole[api.Run]
+
+	ch, part, module = sample.Within, sample.Owed, sample.Joined
 )
 
 const (
@@ -94,11 +97,6 @@ func holds(c api.Config, w []int) api.Errno {
 // some are numbers of partitions, idle ticks' and such as are no partition's.
 func some() []int {
 	return []int{-2, -1, 0, 1, 2, 3, 4, 5, 6, 7}
-}
-
-// odd are numbers that few rows have to do with.
-func odd() []int64 {
-	return []int64{least, least + 1, -1 << 32, 1 - 1<<32, math.MinInt32, -4096, -6, -3, -2, 1 << 13, 1 << 31, 1 << 32, 1<<32 + 1, 1 << 62, greatest - 1, greatest}
 }
 
 // agree: all answers of l, a row of not too many ticks, are what the second reckoning tells.

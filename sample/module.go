@@ -25,6 +25,21 @@ func Queue(from, to int) api.Chan {
 	return api.Chan{From: from, To: to, Queue: true, Cap: 2}
 }
 
+// Within is a channel with a Late.
+func Within(from, to int, late int64) api.Chan {
+	return api.Chan{From: from, To: to, Late: late}
+}
+
+// Owed is a partition with a Budget in each Period.
+func Owed(budget, period int64) api.Part {
+	return api.Part{Budget: budget, Period: period}
+}
+
+// Joined is a module of partitions and channels.
+func Joined(parts []api.Part, chans ...api.Chan) api.Config {
+	return api.Config{Parts: parts, Chans: chans}
+}
+
 // Few is each module of up to three partitions, and up to so many channels between these and such as are none.
 func Few(most int) []api.Config {
 	var out []api.Config

@@ -194,6 +194,30 @@ func Rows() [][]api.Run {
 	return out
 }
 
+// Frames are rows as long as a frame may be: by ticks, by runs, by both.
+func Frames() [][]api.Run {
+	out := [][]api.Run{
+		Row(0, 4096), Row(-1, 4096), Row(0, 1, -1, 4095), Row(-1, 4095, 0, 1), Row(0, 2048, 1, 2048), Row(0, 1, 1, 4094, 0, 1), Row(1, 2000, 0, 1, 2, 95, 1, 2000),
+		slices.Repeat(Row(0, 1, 1, 1), 48), slices.Repeat(Row(0, 1, 1, 2, -1, 3), 32), slices.Repeat(Row(0, 42, 1, 42), 48), slices.Repeat(Row(3, 1), 96), slices.Repeat(Row(3, 42), 96),
+		append(slices.Repeat(Row(0, 43, 1, 43), 47), Row(0, 43, 5, 11)...), append(Row(5, 11), slices.Repeat(Row(2, 43), 95)...),
+	}
+	for i := range int64(4) {
+		var l []api.Run
+		for at := range int64(96) {
+			l = append(l, api.Run{Part: int((at*at+i)%7) - 1, N: 1 + (at*(i+3)+at/7)%(30*(i%2+1))})
+		}
+		// Up to 4096 ticks.
+		l[95].N += 4096 - int64(len(Ticks(l)))
+		out = append(out, l)
+	}
+	return out
+}
+
+// Odd are numbers that few rows have to do with.
+func Odd() []int64 {
+	return []int64{math.MinInt64, math.MinInt64 + 1, -1 << 32, 1 - 1<<32, math.MinInt32, -4096, -6, -3, -2, 1 << 13, 1 << 31, 1 << 32, 1<<32 + 1, 1 << 62, math.MaxInt64 - 1, math.MaxInt64}
+}
+
 // Each row of up to so many of some.
 func Each[T any](some []T, most int) [][]T {
 	out := [][]T{nil}

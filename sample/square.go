@@ -50,6 +50,38 @@ func Pairs(n int, told func(a, b int) bool) [][]bool {
 	return out
 }
 
+// Dependences: none, with room behind it, too small, too large, not square, one way alone.
+func Dependences() [][][]bool {
+	out := [][][]bool{nil, {}, {nil}, {nil, nil, nil}, {{}, {}, {}, {}, {}, {}, {}, {}}, RoomyRows(Square("1. .1"))}
+	for _, s := range []string{
+		"1", ".", "1. .1", "11 11", ".1 1.", ".. ..", ".1 ..", ".. 1.", "11. 111 .11", "..1 ... ...", "... ... 1..", "... ... .1.",
+		".1", "..1", ".....1", "1.....1", "......1", ". 1", ". . 11", ".11 . .", ". 1 11 111", ". 11 1 ..1", "..1 1", "1 .11 ... 1..1", "...1 . . .", "1 1 1 1 1 1", "1 1 1 1 1 1 1 1",
+		"111111 111111 111111 111111 111111 111111", "...... ...... ...... ...... ...... ......", ".11111 ..1111 ...111 ....11 .....1 ......", "...... ...... ...... ...... ...... 1....1", ".....1 ...... ...... ...... ...... ......",
+		"......11 ......11 ........ ........ ........ ........ 11.....1 11....1.", "........ ........ ........ ........ ........ ........ 11111111 11111111", "......1 .......1 1", "1111111111",
+	} {
+		out = append(out, Square(s))
+	}
+	return out
+}
+
+// Squares: each dependence of n that says the same either way.
+func Squares(n int) [][][]bool {
+	var two [][2]int
+	for a := range n {
+		for b := range a {
+			two = append(two, [2]int{b, a})
+		}
+	}
+	var out [][][]bool
+	for bits := range 1 << len(two) {
+		out = append(out, Pairs(n, func(a, b int) bool {
+			at := slices.Index(two, [2]int{min(a, b), max(a, b)})
+			return a == b || bits>>at&1 == 1
+		}))
+	}
+	return out
+}
+
 // RoomyRows is m with room behind each row, and rows behind it, all of them true.
 func RoomyRows(m [][]bool) [][]bool {
 	full := slices.Repeat([]bool{true}, len(m)+3)

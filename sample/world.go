@@ -50,6 +50,16 @@ func (w *World) Tick(p int) {
 	}
 }
 
+// Frame is all ticks of l, and its end.
+func (w *World) Frame(l []api.Run) {
+	for _, p := range Ticks(l) {
+		if p >= 0 {
+			w.Tick(p)
+		}
+	}
+	w.End()
+}
+
 // see: partition p sees n.
 func (w *World) see(p, n int) {
 	w.Saw[p] = append(w.Saw[p], n)

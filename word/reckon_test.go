@@ -15,6 +15,7 @@ var (
 	row           = sample.Row
 	spelt         = sample.Spelt
 	square, pairs = sample.Square, sample.Pairs
+	some, squares = sample.Dependences, sample.Squares
 	picture       = sample.Picture
 	short         = sample.Short
 	roomy         = sample.Roomy[api.Run]
@@ -87,22 +88,4 @@ func is(t *testing.T, a, b []api.Run, dep [][]bool, x, y int, no bool) {
 	if word.Same(a, b, dep) == no {
 		t.Fatalf("Same(%s, %s, %.300s): %v", short(a), short(b), picture(dep), !no)
 	}
-}
-
-// squares: each dependence of n that says the same either way.
-func squares(n int) [][][]bool {
-	var two [][2]int
-	for a := range n {
-		for b := range a {
-			two = append(two, [2]int{b, a})
-		}
-	}
-	var out [][][]bool
-	for bits := range 1 << len(two) {
-		out = append(out, pairs(n, func(a, b int) bool {
-			at := slices.Index(two, [2]int{min(a, b), max(a, b)})
-			return a == b || bits>>at&1 == 1
-		}))
-	}
-	return out
 }

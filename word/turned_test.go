@@ -185,8 +185,8 @@ func TestWorld(t *testing.T) {
 			}
 			first, turned := sample.Begin(c), sample.Begin(c)
 			for range 3 {
-				play(first, l)
-				play(turned, m)
+				first.Frame(l)
+				turned.Frame(m)
 				if !first.Same(turned) {
 					t.Fatalf("%v: %v and %v can be told apart", c, l, m)
 				}
@@ -196,16 +196,4 @@ func TestWorld(t *testing.T) {
 	if moved < 1000 {
 		t.Errorf("no more than %d were turned about", moved)
 	}
-}
-
-// play is a frame of w.
-func play(w *sample.World, l []api.Run) {
-	for _, x := range l {
-		for range x.N {
-			if x.Part >= 0 {
-				w.Tick(x.Part)
-			}
-		}
-	}
-	w.End()
 }
