@@ -2,7 +2,6 @@ package bound_test
 
 import (
 	"math"
-	"slices"
 	"testing"
 
 	"horarium/api"
@@ -20,6 +19,10 @@ var (
 	roomy = sample.Roomy[api.Run]
 	whole = sample.Whole[api.Run]
 
+	// The second reckoning, tick by tick.
+	places, late  = sample.Places, sample.Late
+	budget, holds = sample.Budget, sample.Holds
+
 	ch, part, module = sample.Within, sample.Owed, sample.Joined
 )
 
@@ -27,31 +30,6 @@ const (
 	greatest = math.MaxInt64
 	least    = math.MinInt64
 )
-
-// places is where w has ticks of part, rising.
-func places(w []int, part int) []int {
-	var out []int
-	for at, x := range w {
-		if x == part {
-			out = append(out, at)
-		}
-	}
-	return out
-}
-
-// late is what Late must answer of a frame of the ticks w: from each tick on the next one is looked for in two frames, one behind the other. Another way than the package's, which counts by runs.
-func late(w []int, from, to int) int64 {
-	next := places(slices.Concat(w, w), to)
-	most := 0
-	for _, at := range places(w, from) {
-		i, _ := slices.BinarySearch(next, at+1)
-		if i == len(next) {
-			return -1
-		}
-		most = max(most, next[i]-at)
-	}
-	return int64(most)
-}
 
 // gaps is what Gaps must answer: between each two places of part, and from its last one to its first one a frame later.
 func gaps(w []int, part int) int64 {
@@ -65,33 +43,6 @@ func gaps(w []int, part int) int64 {
 		most = max(most, next-at[i]-1)
 	}
 	return int64(most)
-}
-
-// budget is what Budget must answer: the ticks are cut into periods, and in each part's are counted.
-func budget(w []int, part int, period int64) int64 {
-	if period < 1 || len(w) == 0 || int64(len(w))%period != 0 {
-		return -1
-	}
-	var often []int
-	for piece := range slices.Chunk(w, int(period)) {
-		often = append(often, len(places(piece, part)))
-	}
-	return int64(slices.Min(often))
-}
-
-// holds is what Holds must answer.
-func holds(c api.Config, w []int) api.Errno {
-	for _, x := range c.Chans {
-		if n := late(w, x.From, x.To); x.Late > 0 && (n < 0 || n > x.Late) {
-			return api.ErrLate
-		}
-	}
-	for p, x := range c.Parts {
-		if x.Budget > 0 && budget(w, p, x.Period) < x.Budget {
-			return api.ErrShort
-		}
-	}
-	return api.OK
 }
 
 // some are numbers of partitions, idle ticks' and such as are no partition's.

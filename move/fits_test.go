@@ -126,11 +126,7 @@ func TestFitsNone(t *testing.T) {
 
 // drawn is so many runs, not tidy, of n partitions and idle ones.
 func drawn(r *rand.Rand, long, n int) []api.Run {
-	l := make([]api.Run, long)
-	for at := range l {
-		l[at] = api.Run{Part: r.IntN(n+1) - 1, N: 1 + r.Int64N(3)}
-	}
-	return l
+	return sample.Tossed(r.IntN, long, n)
 }
 
 // TestFitsAt: each move that may be made fits where as much is asked as it gives, not where more is: channel by channel, partition by partition.

@@ -23,6 +23,7 @@ var (
 	odd           = sample.Odd
 	roomy         = sample.Roomy[api.Run]
 	whole         = sample.Whole[api.Run]
+	tied, joined  = sample.TiesBy, sample.TiesOf
 
 	ch, part, module = sample.Within, sample.Owed, sample.Joined
 )
@@ -52,91 +53,17 @@ func each(l []api.Run) []move.Move {
 	return out
 }
 
-// ties are two by two who depends on whom, each both ways.
-type ties map[[2]int]int
+// ties is what a second reckoning takes for who depends on whom.
+type ties = sample.Ties
 
-// tie: a and b depend.
-func (w ties) tie(a, b int) {
-	w[[2]int{a, b}], w[[2]int{b, a}] = 1, 1
-}
-
-// tied is what dep says either way.
-func tied(dep [][]bool) ties {
-	w := ties{}
-	for a, r := range dep {
-		for b, is := range r {
-			if is {
-				w.tie(a, b)
-			}
-		}
-	}
-	return w
-}
-
-// joined is what the partitions of c can tell of each other, by its channels and by who may change the table.
-func joined(c api.Config) ties {
-	w := ties{}
-	for _, x := range c.Chans {
-		if min(x.From, x.To) >= 0 && max(x.From, x.To) < len(c.Parts) {
-			w.tie(x.From, x.To)
-		}
-	}
-	for a, x := range c.Parts {
-		for b, y := range c.Parts {
-			if x.Sched && y.Sched {
-				w.tie(a, b)
-			}
-		}
-	}
-	return w
-}
-
-// may is what May must answer: who has runs between is gathered, and none of these may be the one at the ends, or have to do with it.
+// may is what May must answer.
 func may(l []api.Run, w ties, m move.Move) bool {
-	if m.I < 0 || m.J <= m.I || m.J >= len(l) || l[m.I].Part != l[m.J].Part {
-		return false
-	}
-	mine := l[m.I].Part
-	between := map[int]int{}
-	for _, x := range l[m.I+1 : m.J] {
-		between[x.Part]++
-	}
-	for p := range between {
-		if p == mine || p != -1 && mine != -1 && w[[2]int{p, mine}] > 0 {
-			return false
-		}
-	}
-	return true
+	return w.May(l, m.I, m.J)
 }
 
-// do is what Do must answer, of rows of not too many ticks: the ticks are written out run by run, those of the one that goes are put to the place, and all are read as runs again. Another way than the package's, which counts by runs.
+// do is what Do must answer, of rows of not too many ticks.
 func do(l []api.Run, m move.Move) []api.Run {
-	if m.I < 0 || m.J <= m.I || m.J >= len(l) {
-		return l
-	}
-	pieces := make([][]int, len(l))
-	for at := range l {
-		pieces[at] = ticks(l[at : at+1])
-	}
-	at, gone := m.I, m.J
-	if m.Right {
-		at, gone = gone, at
-	}
-	pieces[at] = append(pieces[at], slices.Repeat([]int{l[at].Part}, len(pieces[gone]))...)
-	pieces[gone] = nil
-	return together(slices.Concat(pieces...))
-}
-
-// together is a run for each stretch of ticks of one.
-func together(w []int) []api.Run {
-	var out []api.Run
-	for at, p := range w {
-		if at == 0 || w[at-1] != p {
-			out = append(out, api.Run{Part: p})
-		}
-		out[len(out)-1].N++
-	}
-	return out
+	return sample.Moved(l, m.I, m.J, m.Right)
 }
 
 // mays: May answers want, either way.

@@ -85,11 +85,7 @@ func modules() []api.Config {
 
 // frame is so many runs of n partitions and idle ones, drawn.
 func frame(r *rand.Rand, long, n int) []api.Run {
-	out := make([]api.Run, long)
-	for i := range out {
-		out[i] = api.Run{Part: r.IntN(n+1) - 1, N: 1 + r.Int64N(3)}
-	}
-	return out
+	return sample.Tossed(r.IntN, long, n)
 }
 
 // freely is l turned about at many drawn places, where the runs there are Free.
