@@ -81,16 +81,30 @@ func Modules(most int) []api.Config {
 	return out
 }
 
-// RoomyModule is c with room behind its partitions and channels, filled with those of more.
+// RoomyModule is c with room behind each of its lists, filled with those of more, or with what no module may have.
 func RoomyModule(c, more api.Config) api.Config {
 	c.Parts = Roomy(c.Parts, more.Parts)
 	c.Chans = Roomy(c.Chans, more.Chans)
+	c.Tables = Roomy(c.Tables, slices.Concat(more.Tables, [][]api.Node{Idle(-1), nil}))
+	for p, x := range c.Parts {
+		c.Parts[p].Procs = Roomy(x.Procs, []api.Proc{{Entry: -1, Prio: -1}, {Entry: 9999}, {}, {}})
+	}
+	for i, t := range c.Tables {
+		c.Tables[i] = Roomy(t, slices.Concat(Idle(-1), Window(9, 9)))
+	}
 	return c
 }
 
-// WholeModule is a copy of c, the room of its partitions and channels included.
+// WholeModule is a copy of c, all room included.
 func WholeModule(c api.Config) api.Config {
 	c.Parts = slices.Clone(Whole(c.Parts))
 	c.Chans = slices.Clone(Whole(c.Chans))
+	c.Tables = slices.Clone(Whole(c.Tables))
+	for p, x := range c.Parts {
+		c.Parts[p].Procs = slices.Clone(Whole(x.Procs))
+	}
+	for i, t := range c.Tables {
+		c.Tables[i] = slices.Clone(Whole(t))
+	}
 	return c
 }
