@@ -16,11 +16,6 @@ type edge struct {
 	ok bool
 }
 
-// places are the first, one between, the last of n.
-func places(n int) []int {
-	return []int{0, n / 2, n - 1}
-}
-
 func TestExamples(t *testing.T) {
 	is(t, api.Config{}, api.ErrLong, 0)
 	is(t, full(), api.OK, -1)
@@ -89,7 +84,7 @@ func TestTwice(t *testing.T) {
 
 // TestProcs: how many, and each of them at its bounds and beyond.
 func TestProcs(t *testing.T) {
-	for _, p := range places(6) {
+	for _, p := range sample.Ends(6) {
 		for n := range 7 {
 			why, at := api.OK, -1
 			if n < 1 || n > 3 {
@@ -128,7 +123,7 @@ func stands(t *testing.T, ok bool, why api.Errno, at int, c api.Config) {
 
 // TestHealth: of each fault each action, and such as are none.
 func TestHealth(t *testing.T) {
-	for _, p := range places(6) {
+	for _, p := range sample.Ends(6) {
 		for kind := range 5 {
 			for _, x := range []edge{{least, false}, {-2, false}, {-1, false}, {0, true}, {1, true}, {2, true}, {3, false}, {4, false}, {5, false}, {256, false}, {1 << 32, false}, {greatest, false}} {
 				stands(t, x.ok, api.ErrPart, p, with(func(c *api.Config) { c.Parts[p].Health[kind] = int(x.n) }))
@@ -144,7 +139,7 @@ func TestHealth(t *testing.T) {
 
 // TestOwed: Budget and Period at their bounds and beyond, one of them 0 alone, Period below Budget. Each partition has all ticks of the one table, or one of 4096.
 func TestOwed(t *testing.T) {
-	for _, p := range places(6) {
+	for _, p := range sample.Ends(6) {
 		for _, x := range []struct {
 			budget, period int64
 			want           api.Errno
@@ -180,7 +175,7 @@ func TestOwed(t *testing.T) {
 func TestEnds(t *testing.T) {
 	numbers := []int{math.MinInt, -1 << 32, -6, -2, -1, 0, 1, 2, 3, 4, 5, 6, 7, 256, 1 << 32, math.MaxInt}
 	for n := 1; n < 7; n++ {
-		for _, i := range places(8) {
+		for _, i := range sample.Ends(8) {
 			for _, from := range numbers {
 				for _, to := range numbers {
 					c := api.Config{Parts: full().Parts[:n], Tables: [][]api.Node{window(0, 1)}}
@@ -203,7 +198,7 @@ func TestEnds(t *testing.T) {
 
 // TestCap: of a Queue, and of none.
 func TestCap(t *testing.T) {
-	for _, i := range places(8) {
+	for _, i := range sample.Ends(8) {
 		for _, n := range append(sample.Odd(), -1, 0, 1, 2, 3, 4, 5, 6, 7, 8, 9, 10, 16, 255, 256, 264) {
 			queue := with(func(c *api.Config) { c.Chans[i].Queue, c.Chans[i].Cap = true, int(n) })
 			stands(t, n > 0 && n < 9, api.ErrChan, i, queue)
@@ -215,7 +210,7 @@ func TestCap(t *testing.T) {
 
 // TestLate: of a Late at its bounds and beyond; Max may be any.
 func TestLate(t *testing.T) {
-	for _, i := range places(8) {
+	for _, i := range sample.Ends(8) {
 		for _, x := range append([]edge{{4097, false}, {4098, false}, {8192, false}, {-1, false}, {-2, false}, {-4096, false}, {0, true}, {4096, true}, {4095, true}, {12, true}}, edges(sample.Odd())...) {
 			stands(t, x.ok, api.ErrChan, i, with(func(c *api.Config) { c.Chans[i].Late = x.n }))
 		}
@@ -249,7 +244,7 @@ func TestLongNames(t *testing.T) {
 		c.Parts[p].Name = strings.Repeat("n", 11) + string(rune('0'+p))
 	}
 	is(t, c, api.OK, -1)
-	for _, p := range places(6) {
+	for _, p := range sample.Ends(6) {
 		long := with(func(x *api.Config) { x.Parts[p].Name = c.Parts[p].Name + "0" })
 		is(t, long, api.ErrName, p)
 	}

@@ -20,7 +20,7 @@ import (
 // Short names of what sample makes.
 var (
 	window, idle, seq, times = sample.Window, sample.Idle, sample.Seq, sample.Times
-	full                     = sample.Full
+	full, bounds             = sample.Full, sample.Bounds
 )
 
 // What lines and tables must be: another way than the package's, which goes byte by byte.
